@@ -1,0 +1,1 @@
+"""Earlysift: questions answered while a paper comes, as early as can be."""
