@@ -5,9 +5,47 @@ import random
 import signal
 from contextlib import contextmanager
 
+from earlysift.papers import signs_of, stump
+
 ANY = ("any",)
 NAMES = ["a", "b", "ab"]
 TEXTS = ["", "x", "xy", "a", "*"]
+CLOSE = ("close",)
+
+
+def opening(name):
+    return ("open", name)
+
+
+def text(words):
+    return ("text", words)
+
+
+def own(name, wish=ANY):
+    return ("own", name, wish)
+
+
+def inner(name, wish=ANY):
+    return ("inner", name, wish)
+
+
+def has(*steps):
+    return ("has", list(steps))
+
+
+def words(text):
+    return ("text", text)
+
+
+def both(*wishes):
+    return ("both", list(wishes))
+
+
+def one(*wishes):
+    return ("one", list(wishes))
+
+
+ALL = [inner("*")]
 
 
 class Node:
@@ -122,6 +160,119 @@ class Maker:
         name = self.random.choice(NAMES + ["*", "*"])
         wish = self.wish(deep) if self.random.randrange(2) else ANY
         return (self.random.choice(["own", "inner"]), name, wish)
+
+
+def deep_paper(deep, many):
+    """A chain of tuples, `deep` of them, z the innermost; beside them leaves and texts, up to `many` parts."""
+    part = ("z", ["end"])
+    left = many - deep - 1
+    for level in range(deep - 1, 0, -1):
+        share = left // level
+        left -= share
+        beside = [("a", []) if number % 2 else "x" for number in range(share)]
+        part = ("a", beside[: share // 2] + [part] + beside[share // 2:])
+    return part
+
+
+def depths_of(paper):
+    depths, depth = [], 0
+    for sign in signs_of(paper):
+        if sign[0] == "open":
+            depth += 1
+            depths.append(depth)
+        elif sign[0] == "close":
+            depth -= 1
+    return depths
+
+
+def steps_within_steps(levels, name):
+    if levels == 0:
+        return [inner(name)]
+    return [inner("*"), inner("*", has(*steps_within_steps(levels - 1, name)))]
+
+
+def beginnings(signs):
+    return [signs[:many] for many in range(1, len(signs) + 1)]
+
+
+def ways_on(signs, most, names=("a", "b"), texts=("x",)):
+    """Every row of signs that begins with these and goes on by at most so many more."""
+    yield signs
+    if most > 0 and open_at_end(signs) > 0:
+        for sign in [opening(name) for name in names] + [text(one) for one in texts] + [CLOSE]:
+            yield from ways_on(signs + [sign], most - 1, names, texts)
+
+
+def pieces_of(steps):
+    """All steps and wishes that stand in the steps."""
+    found = []
+    for step in steps:
+        found.append(step)
+        wishes = [step[2]]
+        while wishes:
+            wish = wishes.pop()
+            found.append(wish)
+            if wish[0] == "has":
+                found.extend(pieces_of(wish[1]))
+            elif wish[0] in ("both", "one"):
+                wishes.extend(wish[1])
+    return found
+
+
+def steps_in(steps):
+    return [piece for piece in pieces_of(steps) if len(piece) == 3]
+
+
+def wishes_in(steps, kind):
+    return [piece for piece in pieces_of(steps) if len(piece) < 3 and piece[0] == kind]
+
+
+def deep_steps(steps):
+    """How deep parts may have to nest that the steps are answered from a part."""
+    return max(place + 1 + deep_wish(step[2]) for place, step in enumerate(steps))
+
+
+def deep_wish(wish):
+    if wish[0] == "has":
+        return deep_steps(wish[1])
+    if wish[0] in ("both", "one"):
+        return max([deep_wish(other) for other in wish[1]], default=0)
+    return 0
+
+
+def everything(question, deep):
+    """Signs of parts of all the question's names, nested so deep, each with all the question's texts."""
+    signs = [text(words) for words in sorted({wish[1] for wish in wishes_in(question, "text")})]
+    if deep > 0:
+        within = everything(question, deep - 1)
+        for name in sorted({step[1].replace("*", "a") for step in steps_in(question)}):
+            signs += [opening(name)] + within + [CLOSE]
+    return signs
+
+
+def most_of(signs, question, deep):
+    """Wishes and steps never fall by what comes: what answers in any paper that begins with the signs answers in
+    this one, where everything that the question can speak of comes into each open part."""
+    signs = list(signs)
+    for _ in range(open_at_end(signs)):
+        signs += everything(question, deep) + [CLOSE]
+    return signs
+
+
+def check_ending(case, signs, ending):
+    """It can come behind the signs, closes all that is open, and keeps the bounds."""
+    case.assertIsInstance(ending, list)
+    depth, deepest = 0, 0
+    for sign in ending:
+        case.assertIsInstance(sign, tuple)
+        depth += {"open": 1, "text": 0, "close": -1}[sign[0]]
+        deepest = max(deepest, depth)
+    case.assertEqual(depth, -open_at_end(signs))
+    case.assertLessEqual(len(ending), 2000)
+    case.assertLessEqual(deepest, 60)
+    whole = stump(signs + ending)
+    case.assertEqual(signs_of(whole), signs + ending)
+    return whole
 
 
 def open_at_end(signs):

@@ -200,6 +200,32 @@ class Language(unittest.TestCase):
             else:
                 self.assertIn(node.attr, kept, place)
 
+    def test_attributes_and_methods_are_not_called_like_those_of_pythons_own_values(self):
+        taken = {name for one in ("", 0, [], (), {}, set(), b"") for name in dir(one)}
+        own = {piece.name for _, node in self.nodes(ast.ClassDef) for piece in node.body if hasattr(piece, "name")}
+        kept = {node.attr for _, node in self.nodes(ast.Attribute) if isinstance(node.ctx, ast.Store)}
+        self.assertEqual(kept & taken - set("count index title find get join lower upper split strip copy add".split()), set())
+        self.assertEqual(own & taken - METHODS - SPECIAL - {"add", "discard"}, set())
+
+    def test_lists_and_dicts_at_the_top_hold_none_and_are_only_read(self):
+        for stem, tree in self.trees.items():
+            rows = [node for node in tree.body if isinstance(node, ast.Assign)]
+            for row in rows:
+                inside = [node for node in ast.walk(row.value) if isinstance(node, (ast.List, ast.Dict))]
+                self.assertTrue(all(node is row.value for node in inside), stem)
+            names = [row.targets[0].id for row in rows if isinstance(row.value, (ast.List, ast.Dict))]
+            read = set()
+            for node in ast.walk(tree):
+                if isinstance(node, ast.Subscript) and isinstance(node.ctx, ast.Load):
+                    read.add(id(node.value))
+                if isinstance(node, ast.Compare):
+                    read.update(id(one) for one in node.comparators)
+                if isinstance(node, (ast.For, ast.comprehension)):
+                    read.add(id(node.iter))
+            for node in ast.walk(tree):
+                if isinstance(node, ast.Name) and isinstance(node.ctx, ast.Load) and node.id in names:
+                    self.assertIn(id(node), read, stem)
+
     def test_is_stands_beside_none_true_and_false(self):
         for place, node in self.nodes(ast.Compare):
             for op, right in zip(node.ops, node.comparators):

@@ -2,17 +2,7 @@ import unittest
 
 from earlysift.errors import Late, NoPart, NoSign, NoText, SiftError, Taken
 from earlysift.papers import many_parts, signs_of, stump
-from helper import Maker, in_good_time, keeps_apart, open_at_end, spoil
-
-CLOSE = ("close",)
-
-
-def opening(name):
-    return ("open", name)
-
-
-def text(words):
-    return ("text", words)
+from helper import CLOSE, Maker, in_good_time, keeps_apart, open_at_end, opening, spoil, text
 
 
 class SignsOf(unittest.TestCase):

@@ -2,34 +2,10 @@ import unittest
 
 from earlysift.papers import many_parts, signs_of, stump
 from earlysift.plain import answers, holds
-from helper import ANY, Maker, count_and_depth, in_good_time, keeps_apart, slow_answers, slow_holds, spoil
-
-
-def own(name, wish=ANY):
-    return ("own", name, wish)
-
-
-def inner(name, wish=ANY):
-    return ("inner", name, wish)
-
-
-def has(*steps):
-    return ("has", list(steps))
-
-
-def words(text):
-    return ("text", text)
-
-
-def both(*wishes):
-    return ("both", list(wishes))
-
-
-def one(*wishes):
-    return ("one", list(wishes))
-
-
-ALL = [inner("*")]
+from helper import (
+    ALL, ANY, Maker, both, count_and_depth, deep_paper, depths_of, has, in_good_time, inner, keeps_apart, one, own,
+    slow_answers, slow_holds, spoil, steps_within_steps, words,
+)
 
 
 class Holds(unittest.TestCase):
@@ -324,35 +300,6 @@ class InStumps(unittest.TestCase):
         question = [inner("*", has(inner("c", words("x"))))]
         told = [answers(stump(signs[:many]), question) for many in range(1, len(signs) + 1)]
         self.assertEqual(told, [[], [], [], [0, 1], [0, 1], [0, 1], [0, 1], [0, 1], [0, 1]])
-
-
-def deep_paper(deep, many):
-    """A chain of tuples, `deep` of them, z the innermost; beside them leaves and texts, up to `many` parts."""
-    part = ("z", ["end"])
-    left = many - deep - 1
-    for level in range(deep - 1, 0, -1):
-        share = left // level
-        left -= share
-        beside = [("a", []) if number % 2 else "x" for number in range(share)]
-        part = ("a", beside[: share // 2] + [part] + beside[share // 2:])
-    return part
-
-
-def depths_of(paper):
-    depths, depth = [], 0
-    for sign in signs_of(paper):
-        if sign[0] == "open":
-            depth += 1
-            depths.append(depth)
-        elif sign[0] == "close":
-            depth -= 1
-    return depths
-
-
-def steps_within_steps(levels, name):
-    if levels == 0:
-        return [inner(name)]
-    return [inner("*"), inner("*", has(*steps_within_steps(levels - 1, name)))]
 
 
 class Large(unittest.TestCase):
