@@ -227,6 +227,69 @@ def wishes_in(steps, kind):
     return [piece for piece in pieces_of(steps) if len(piece) < 3 and piece[0] == kind]
 
 
+def within_bounds(question):
+    """The bounds of [21] and [28], of both questions."""
+    ones = wishes_in(question, "one")
+    inners = [step for step in steps_in(question) if step[0] == "inner"]
+    if len(inners) > 3 or len(ones) > 3 or stars_in(question) > 4:
+        return False
+    return all(len(wish[1]) <= 3 for wish in ones) and count_and_depth(question)[0] <= 40
+
+
+def stars_in(question):
+    return len([step for step in steps_in(question) if step[1] == "*"])
+
+
+def small_papers(most, names=("a", "b")):
+    """All papers of at most so many tuples, but for the order of parts."""
+    trees = {0: [[]]}
+    for many in range(1, most + 1):
+        trees[many] = rows_of(many, [], trees, names)
+    return [row[0] for many in range(1, most + 1) for row in trees[many] if len(row) == 1]
+
+
+def rows_of(many, ahead, trees, names):
+    """All rows of trees of so many tuples in all, none of them ahead, by kind, of the one that comes before it."""
+    if many == 0:
+        return [ahead]
+    found = []
+    for here in range(1, many + 1):
+        for name in names:
+            for within in trees[here - 1]:
+                part = (name, within)
+                if not ahead or kind_of(ahead[-1]) <= kind_of(part):
+                    found.extend(rows_of(many - here, ahead + [part], trees, names))
+    return found
+
+
+def kind_of(part):
+    return len(repr(part)), repr(part)
+
+
+def leavings(question):
+    """All that one leaving-out makes of a question: point [26] word for word."""
+    found = []
+    for place, (way, name, wish) in enumerate(question):
+        for other in wish_leavings(wish):
+            found.append(question[:place] + [(way, name, other)] + question[place + 1:])
+    return found
+
+
+def wish_leavings(wish):
+    found = [] if wish == ANY else [ANY]
+    if wish[0] == "has":
+        found += [("has", steps) for steps in leavings(wish[1])]
+        if len(wish[1]) >= 2:
+            found.append(("has", wish[1][:-1]))
+    if wish[0] in ("both", "one"):
+        for place, inside in enumerate(wish[1]):
+            if len(wish[1]) >= 2:
+                found.append((wish[0], wish[1][:place] + wish[1][place + 1:]))
+            for other in wish_leavings(inside):
+                found.append((wish[0], wish[1][:place] + [other] + wish[1][place + 1:]))
+    return found
+
+
 def deep_steps(steps):
     """How deep parts may have to nest that the steps are answered from a part."""
     return max(place + 1 + deep_wish(step[2]) for place, step in enumerate(steps))
