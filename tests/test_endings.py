@@ -122,7 +122,8 @@ class Large(unittest.TestCase):
             self.check(question, signs[:many])
 
     def test_wide_wishes(self):
-        wishes = [words(str(number)) for number in range(19)] + [has(own("b", words(str(number)))) for number in range(6)]
+        wishes = [words(str(number)) for number in range(19)]
+        wishes += [has(own("b", words(str(number)))) for number in range(6)]
         self.check([inner("a", both(*wishes))], [opening("a"), opening("b"), CLOSE, opening("a")])
 
 

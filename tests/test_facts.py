@@ -23,7 +23,9 @@ NEVER = [
     has(own("a", has(own("b", both(words("x"), one()))))),
     one(both(one()), has(own("a", one()))),
 ]
-ALWAYS = [ANY, both(), both(both()), both(ANY, both()), one(ANY), one(both()), one(one(), ANY), both(one(one(), both()))]
+ALWAYS = [
+    ANY, both(), both(both()), both(ANY, both()), one(ANY), one(both()), one(one(), ANY), both(one(one(), both())),
+]
 SOMETIMES = [
     words("x"), words(""), has(own("a")), has(inner("*")), both(words("x"), words("y")), one(one(), words("x")),
     both(both(), has(own("b", one(one(), ANY)))), has(own("a"), inner("b", words("x")), own("*")),

@@ -204,7 +204,8 @@ class Language(unittest.TestCase):
         taken = {name for one in ("", 0, [], (), {}, set(), b"") for name in dir(one)}
         own = {piece.name for _, node in self.nodes(ast.ClassDef) for piece in node.body if hasattr(piece, "name")}
         kept = {node.attr for _, node in self.nodes(ast.Attribute) if isinstance(node.ctx, ast.Store)}
-        self.assertEqual(kept & taken - set("count index title find get join lower upper split strip copy add".split()), set())
+        free = set("count index title find get join lower upper split strip copy add".split())
+        self.assertEqual(kept & taken - free, set())
         self.assertEqual(own & taken - METHODS - SPECIAL - {"add", "discard"}, set())
 
     def test_lists_and_dicts_at_the_top_hold_none_and_are_only_read(self):

@@ -67,6 +67,8 @@ QUESTIONS = [
     ([inner("*")], "//*"),
     ([own("a"), inner("b"), own("*"), inner("*"), own("any")], "/a//b/*//*/any"),
     ([own("abcdefghijkl")], "/abcdefghijkl"),
+    ([own("mnopqrstuvwx"), inner("yz")], "/mnopqrstuvwx//yz"),
+    ([own("zyxwvutsrqpo", has(own("z")))], "/zyxwvutsrqpo[/z]"),
     ([own("a", words("x"))], '/a["x"]'),
     ([own("a", words(""))], '/a[""]'),
     ([own("a", words(" "))], '/a[" "]'),
@@ -166,7 +168,8 @@ class Read(unittest.TestCase):
     def test_other_lines(self):
         for line, at in [
             ("/", 1), ("//", 2), ("/a[", 3), ("/a[]", 3), ("/a[[", 3), ("/a]", 2), ("/a[/b", 5), ("/a[/b]]", 6),
-            ("/a[/b][/c]", 6), ("/A", 1), ("/a1", 2), ("/a b", 2), (" /a", 0), ("/a ", 2), ("/a\n", 2), ("/**", 2),
+            ("/a[/b][/c]", 6), ("/A", 1), ("/`", 1), ("/z{", 2), ("/a1", 2), ("/a b", 2),
+            (" /a", 0), ("/a ", 2), ("/a\n", 2), ("/**", 2),
             ("/*a", 2), ("/a[(", 4), ("/a[()]", 4), ("/a[(&", 5), ("/a[(&)", 6), ("/a[(& )]", 6), ("/a[(&any)]", 5),
             ("/a[(& any", 9), ("/a[(& any & any)]", 9), ("/a[(any & any + any)]", 14), ("/a[(any  & any)]", 8),
             ("/a[(any& any)]", 7), ("/a[(any &any)]", 9), ("/a[(any & )]", 10), ("/a[(any - any)]", 8),
